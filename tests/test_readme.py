@@ -1,0 +1,20 @@
+"""What README.md shows is what the program does."""
+
+import doctest
+import pathlib
+import unittest
+
+README = pathlib.Path(__file__).resolve().parent.parent / "README.md"
+
+
+class Readme(unittest.TestCase):
+    def test_examples(self):
+        # The closing marks of a block would count as what an example prints.
+        text = README.read_text("utf-8").replace("```", "")
+        test = doctest.DocTestParser().get_doctest(text, {}, "README.md", str(README), 0)
+        self.assertGreater(len(test.examples), 5)
+        self.assertEqual(doctest.DocTestRunner().run(test).failed, 0)
+
+
+if __name__ == "__main__":
+    unittest.main()

@@ -1,0 +1,1 @@
+"""Tightranges: the least ranges that the rules of a looping program keep."""
