@@ -12,6 +12,26 @@ FUNCTIONS = {
         "joined": ["one", "other"],
         "stepped": ["one", "factor", "add"],
     },
+    "holdings": {
+        "least_holding": ["system"],
+        "is_holding": ["system", "ranges"],
+        "counts": ["system", "ranges", "number"],
+        "gives": ["system", "ranges", "number"],
+    },
+    "moves": {
+        "derivation": ["system"],
+        "follows": ["system", "moves"],
+        "is_derivation": ["system", "moves"],
+    },
+    "spare": {
+        "idle_rules": ["system"],
+        "needless_rules": ["system"],
+        "fewest_cuts": ["system", "name", "within"],
+    },
+    "limits": {
+        "greatest_high": ["system", "number", "name", "limit"],
+        "greatest_bound": ["system", "number", "name", "limit"],
+    },
 }
 CLASSES = {
     "systems": {

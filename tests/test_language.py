@@ -37,6 +37,13 @@ def nodes(*kinds):
     return [(path, node) for path, tree in trees() for node in ast.walk(tree) if isinstance(node, kinds)]
 
 
+def names_of(node):
+    """The names that a statement at module level defines."""
+    if isinstance(node, ast.Assign):
+        return [target.id for target in node.targets]
+    return [node.name] if isinstance(node, (ast.FunctionDef, ast.ClassDef)) else []
+
+
 class Language(unittest.TestCase):
     def test_files(self):
         self.assertIn(PACKAGE / "__init__.py", FILES)
@@ -59,7 +66,7 @@ class Language(unittest.TestCase):
             self.assertTrue(all(one.name != "*" and one.asname is None for one in node.names), path)
 
     def test_imports_name_the_file_that_defines(self):
-        defined = {path.stem: {getattr(node, "name", "") for node in tree.body} for path, tree in trees()}
+        defined = {path.stem: {name for node in tree.body for name in names_of(node)} for path, tree in trees()}
         for path, node in nodes(ast.ImportFrom):
             if node.module.startswith("tightranges."):
                 for one in node.names:

@@ -32,6 +32,12 @@ def changed_rule(rule, times, shifts):
     return ("step", x, y, factor, changed_add, _changed_range(y, within, times, shifts), conditions)
 
 
+def with_high(rule, high):
+    """Returns the rule with another high of its range within."""
+    low, _ = rule[-2]
+    return rule[:-2] + ((low, high), rule[-1])
+
+
 def _changed_range(name, one, times, shifts):
     return stepped(one, times, shifts.get(name, 0))
 
