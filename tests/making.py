@@ -77,3 +77,26 @@ def made_move(source, system):
     if source.random() < 0.3:
         return ("grow", tuple(numbers), side)
     return ("round", tuple(numbers), side, source.choice([0, 1, 1, 2, 3, 5, 200, 201]))
+
+
+def made_value(source, one):
+    """A value in a range, at an end of it where it has one, or just beyond."""
+    low, high = one
+    ends = [end for end in one if end is not None]
+    if ends and source.random() < 0.6:
+        return source.choice(ends) + source.choice([0] * 10 + [1, -1])
+    if low is None or high is None:
+        return (source.choice(ends) if ends else 0) + made_number(source, FAR)
+    return source.randint(low, high)
+
+
+def made_use(source, system):
+    """A tuple of a run, or what looks like one."""
+    rules = system.rules
+    if source.random() < 0.05:
+        return (source.choice([-1, -len(rules), len(rules), FAR]), source.choice([None, 0]))
+    number = source.randrange(len(rules))
+    wrong = source.random() < 0.05
+    if rules[number][0] == "set":
+        return (number, None if wrong else made_value(source, rules[number][2]))
+    return (number, source.choice([0, 1, -FAR]) if wrong else None)

@@ -159,3 +159,27 @@ def is_least(system, ranges, moves):
     No move goes beyond any holding, so a holding that moves lead to is the least one.
     """
     return is_kept(system, ranges) and after_moves(system, moves) == ranges
+
+
+def can_be(value, one):
+    """Tells whether a variable with a value, None if it has none, has it in a range."""
+    if value is None:
+        return False
+    low, high = bounds(one)
+    return low <= value <= high
+
+
+def values_after_rule(rules, values, move):
+    """Point 9: the values after a tuple of a run, None if it is not possible."""
+    number, value = move
+    if number < 0 or number >= len(rules):
+        return None
+    rule = rules[number]
+    if not all(can_be(values[name], one) for name, one in rule[-1]):
+        return None
+    if rule[0] == "set":
+        return {**values, rule[1]: value} if can_be(value, rule[2]) else None
+    _, x, y, factor, add, within, _ = rule
+    if value is not None or not can_be(values[y], within):
+        return None
+    return {**values, x: factor * values[y] + add}

@@ -32,6 +32,20 @@ FUNCTIONS = {
         "greatest_high": ["system", "number", "name", "limit"],
         "greatest_bound": ["system", "number", "name", "limit"],
     },
+    "runs": {
+        "is_run": ["system", "moves"],
+        "values_behind": ["system", "moves"],
+    },
+    "texts": {
+        "show_range": ["one"],
+        "show_rule": ["rule"],
+        "show_system": ["system"],
+    },
+    "readings": {
+        "read_range": ["text"],
+        "read_rule": ["text"],
+        "read_system": ["text"],
+    },
 }
 CLASSES = {
     "systems": {
@@ -46,7 +60,20 @@ CLASSES = {
             "stretched": ["times"],
         },
     },
+    "sheets": {
+        "Sheet": {
+            "__init__": ["system"],
+            "range_of": ["name"],
+            "unreached": [],
+            "add": ["rule"],
+            "drop": ["number"],
+            "put": ["number", "rule"],
+            "undo": [],
+        },
+    },
 }
+CLASS_METHODS = {("sheets", "Sheet", "of_text"): ["text"]}
+PROPERTIES = [("systems", "System", "names"), ("systems", "System", "rules"), ("sheets", "Sheet", "system")]
 
 
 def arguments(function):
@@ -72,6 +99,16 @@ class Interface(unittest.TestCase):
                 self.assertEqual(one.__module__, f"tightranges.{file}", name)
                 for method, expected in methods.items():
                     self.assertEqual(arguments(vars(one)[method]), ["self"] + expected, (name, method))
+
+    def test_class_methods(self):
+        for (file, name, method), expected in CLASS_METHODS.items():
+            one = vars(named(file, name))[method]
+            self.assertIsInstance(one, classmethod)
+            self.assertEqual(arguments(one.__func__), ["cls"] + expected)
+
+    def test_properties(self):
+        for file, name, one in PROPERTIES:
+            self.assertIsInstance(vars(named(file, name))[one], property)
 
 
 if __name__ == "__main__":

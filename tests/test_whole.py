@@ -1,14 +1,17 @@
-"""Points 6 to 8 and 10 over the whole: what becomes of the least holding when the system is changed."""
+"""Points 6 to 10 over the whole: what becomes of the least holding and of runs when the system is changed."""
 
 import random
 import unittest
 
-from tests.making import made_range, made_rule, made_system, made_systems
-from tests.naive import hull, is_within
+from tests.making import made_range, made_rule, made_system, made_systems, made_use
+from tests.naive import can_be, hull, is_within, values_after_rule
 from tests.samples import FAR, busy
 from tightranges.holdings import is_holding, least_holding
 from tightranges.moves import derivation, follows
+from tightranges.runs import is_run, values_behind
+from tightranges.sheets import Sheet
 from tightranges.systems import System
+from tightranges.texts import show_system
 
 MANY = 400
 
@@ -28,6 +31,18 @@ def lesser_ranges(one):
     low, high = one
     cut = [(-10 ** 60 if low is None else low + 1, high), (low, 10 ** 60 if high is None else high - 1)]
     return [None] + [less for less in cut if None in less or less[0] <= less[1]]
+
+
+def made_run(source, system, many):
+    """A run, and the values behind each of its moves."""
+    moves, told = [], [{name: None for name in system.names}]
+    for _ in range(many):
+        move = made_use(source, system)
+        values = values_after_rule(system.rules, told[-1], move)
+        if values is not None:
+            moves.append(move)
+            told.append(values)
+    return moves, told
 
 
 class Whole(unittest.TestCase):
@@ -135,6 +150,46 @@ class Whole(unittest.TestCase):
             for name, one in least.items():
                 for less in lesser_ranges(one):
                     self.assertFalse(is_holding(system, {**least, name: less}), (number, name, less))
+
+    def test_values_of_runs_are_in_the_ranges_of_the_least_holding(self):
+        reached = 0
+        for number, system in self.systems():
+            least = least_holding(system)
+            moves, told = made_run(random.Random(number), system, 100)
+            self.assertEqual(values_behind(system, moves), told[-1])
+            for values in told:
+                for name, value in values.items():
+                    self.assertTrue(value is None or can_be(value, least[name]), (number, moves, name, value))
+            reached += len(moves)
+        self.assertGreater(reached, 5000)
+
+    def test_a_run_is_one_with_a_rule_more_at_the_end(self):
+        for number, system in self.systems():
+            source = random.Random(number)
+            moves, told = made_run(source, system, 30)
+            more = system.with_rule(made_rule(source, system.names, FAR, [1, -1, 2]))
+            self.assertTrue(is_run(system, moves))
+            self.assertTrue(is_run(more, moves))
+            self.assertEqual(values_behind(more, moves), told[-1])
+
+    def test_runs_of_changed_systems(self):
+        for number, system in self.systems():
+            moves, told = made_run(random.Random(number), system, 30)
+            mirrored = [(at, None if value is None else -value) for at, value in moves]
+            expected = {name: None if value is None else -value for name, value in told[-1].items()}
+            self.assertEqual(values_behind(system.mirrored(), mirrored), expected)
+            stretched = [(at, None if value is None else 7 * value) for at, value in moves]
+            expected = {name: None if value is None else 7 * value for name, value in told[-1].items()}
+            self.assertEqual(values_behind(system.stretched(7), stretched), expected)
+
+    def test_the_text_of_a_sheet_gives_an_equal_sheet(self):
+        for number, system in self.systems():
+            sheet = Sheet(system)
+            text = show_system(sheet.system)
+            again = Sheet.of_text(text)
+            self.assertTrue(again == sheet, number)
+            self.assertEqual(show_system(again.system), text)
+            self.assertEqual({name: again.range_of(name) for name in system.names}, least_holding(system))
 
 
 if __name__ == "__main__":

@@ -27,6 +27,11 @@ def lies_within(one, other):
     return common(one, other) == one
 
 
+def has_value(one, value):
+    """Tells whether a value is an integer of a range; None, which stands for no value, is none."""
+    return value is not None and lies_within((value, value), one)
+
+
 def common(one, other):
     """Returns the range of the integers that are in both ranges."""
     check_range(one)
